@@ -1,0 +1,24 @@
+package copies_test
+
+import (
+	"fmt"
+	"testing"
+
+	"slotmesh/api"
+	"slotmesh/copies"
+)
+
+// A copy is equal, and remains so when what was copied changes.
+func TestSpread(t *testing.T) {
+	s := api.Spread{Notice: api.Notice{Version: 3}, Pages: [][]byte{{1}, {2}}, Proofs: [][]uint64{{3}, nil}, Rows: []api.Row{{Mask: 5, Data: []byte{6}}}, Proof: []uint64{7}, Timer: api.Trickle{Seed: 8}}
+	c := copies.Spread(s)
+	before := fmt.Sprint(s)
+	if fmt.Sprint(c) != before {
+		t.Errorf("%v became %v", s, c)
+	}
+	s.Pages[0][0], s.Pages[1], s.Proofs[0][0], s.Proofs[1], s.Proof[0] = 9, nil, 9, []uint64{9}, 9
+	s.Rows[0].Data[0], s.Rows[0].Mask = 9, 9
+	if fmt.Sprint(c) != before {
+		t.Errorf("memory is shared: %v", c)
+	}
+}
