@@ -34,3 +34,26 @@ func Spread(s api.Spread) api.Spread {
 	s.Proof = slices.Clone(s.Proof)
 	return s
 }
+
+// Block returns a copy of a coded block.
+func Block(b api.Block) api.Block {
+	b.Data = slices.Clone(b.Data)
+	b.Proof = slices.Clone(b.Proof)
+	return b
+}
+
+// Beacon returns a copy of a beacon.
+func Beacon(b api.Beacon) api.Beacon {
+	b.Uses = slices.Clone(b.Uses)
+	b.Grants = slices.Clone(b.Grants)
+	b.Asks = slices.Clone(b.Asks)
+	b.Below = slices.Clone(b.Below)
+	b.Words = slices.Clone(b.Words)
+	b.Mail = slices.Clone(b.Mail)
+	b.Got = slices.Clone(b.Got)
+	b.Block = Block(b.Block)
+	return b
+}
+
+// Near returns a copy of what is known of a neighbour.
+func Near(n api.Near) api.Near { return api.Near{Frame: n.Frame, Told: Beacon(n.Told)} }

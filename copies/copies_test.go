@@ -22,3 +22,20 @@ func TestSpread(t *testing.T) {
 		t.Errorf("memory is shared: %v", c)
 	}
 }
+
+func TestNear(t *testing.T) {
+	n := api.Near{Frame: 4, Told: api.Beacon{
+		From: 3, Uses: []api.Use{{Stamp: 1}}, Grants: []api.Grant{{Until: 1}}, Asks: []api.Ask{{Peer: 1}}, Below: []api.Down{{Seq: 1}}, Words: []api.Word{{Key: 1}}, Mail: []api.Word{{Key: 2}}, Got: []int{1}, Has: true,
+		Block: api.Block{Data: []byte{1}, Proof: []uint64{1}},
+	}}
+	c := copies.Near(n)
+	before := fmt.Sprint(n)
+	if fmt.Sprint(c) != before {
+		t.Errorf("%v became %v", n, c)
+	}
+	b := n.Told
+	b.Uses[0].Stamp, b.Grants[0].Until, b.Asks[0].Peer, b.Below[0].Seq, b.Words[0].Key, b.Mail[0].Key, b.Got[0], b.Block.Data[0], b.Block.Proof[0] = 9, 9, 9, 9, 9, 9, 9, 9, 9
+	if fmt.Sprint(c) != before {
+		t.Errorf("memory is shared: %v", c)
+	}
+}
