@@ -57,3 +57,58 @@ func Beacon(b api.Beacon) api.Beacon {
 
 // Near returns a copy of what is known of a neighbour.
 func Near(n api.Near) api.Near { return api.Near{Frame: n.Frame, Told: Beacon(n.Told)} }
+
+// Table returns a copy of a table.
+func Table(t api.Table) api.Table {
+	return api.Table{Uses: slices.Clone(t.Uses), Grants: slices.Clone(t.Grants), Asks: slices.Clone(t.Asks)}
+}
+
+// Flash returns a copy of a memory.
+func Flash(f api.Flash) api.Flash {
+	return api.Flash{Sector: f.Sector, Bytes: slices.Clone(f.Bytes)}
+}
+
+// Seen returns a copy of the numbers of an origin.
+func Seen(s api.Seen) api.Seen {
+	return api.Seen{Origin: s.Origin, Sets: slices.Clone(s.Sets)}
+}
+
+// Node returns a copy of a node.
+func Node(n api.Node) api.Node {
+	n.Half = slices.Clone(n.Half)
+	n.Table = Table(n.Table)
+	n.Near = Each(n.Near, Near)
+	n.Links = slices.Clone(n.Links)
+	n.Below = slices.Clone(n.Below)
+	n.Queue.List = slices.Clone(n.Queue.List)
+	n.Store = Flash(n.Store)
+	n.Seen = Each(n.Seen, Seen)
+	n.Mail = slices.Clone(n.Mail)
+	n.Got = slices.Clone(n.Got)
+	n.Spread = Spread(n.Spread)
+	n.Program = Flash(n.Program)
+	return n
+}
+
+// Frame returns a copy of a frame on the air.
+func Frame(f api.Frame) api.Frame {
+	f.Body = slices.Clone(f.Body)
+	return f
+}
+
+// Sent returns a copy of a frame that was sent.
+func Sent(s api.Sent) api.Sent {
+	s.Frame = Frame(s.Frame)
+	return s
+}
+
+// Mesh returns a copy of a mesh.
+func Mesh(m api.Mesh) api.Mesh {
+	m.Nodes = Each(m.Nodes, Node)
+	m.Places = slices.Clone(m.Places)
+	m.Jams = slices.Clone(m.Jams)
+	m.Replays = slices.Clone(m.Replays)
+	m.Sent = Each(m.Sent, Sent)
+	m.Told = slices.Clone(m.Told)
+	return m
+}

@@ -39,3 +39,49 @@ func TestNear(t *testing.T) {
 		t.Errorf("memory is shared: %v", c)
 	}
 }
+
+func node() api.Node {
+	return api.Node{
+		ID: 1, Half: []api.Half{{Key: 1}}, Table: api.Table{Uses: []api.Use{{Stamp: 1}}, Grants: []api.Grant{{Until: 1}}, Asks: []api.Ask{{Peer: 1}}}, Near: []api.Near{{Frame: 1, Told: api.Beacon{Got: []int{1}}}},
+		Links: []api.Link{{Sent: 1}}, Below: []api.Down{{Seq: 1}}, Queue: api.Queue{List: []api.Reading{{Value: 1}}}, Store: api.Flash{Sector: 1, Bytes: []byte{1}}, Seen: []api.Seen{{Origin: 1, Sets: []api.Range{{Low: 1}}}},
+		Mail: []api.Word{{Key: 1}}, Got: []int{1}, Spread: api.Spread{Proof: []uint64{1}}, Program: api.Flash{Sector: 1, Bytes: []byte{1}},
+	}
+}
+
+// scribble changes all the memory of a node.
+func scribble(n api.Node) {
+	n.Half[0].Key, n.Table.Uses[0].Stamp, n.Table.Grants[0].Until, n.Table.Asks[0].Peer, n.Near[0].Told.Got[0] = 9, 9, 9, 9, 9
+	n.Near[0].Frame, n.Links[0].Sent, n.Below[0].Seq, n.Queue.List[0].Value, n.Store.Bytes[0], n.Seen[0].Sets[0].Low = 9, 9, 9, 9, 9, 9
+	n.Seen[0].Origin, n.Mail[0].Key, n.Got[0], n.Spread.Proof[0], n.Program.Bytes[0] = 9, 9, 9, 9, 9
+}
+
+func TestNode(t *testing.T) {
+	n := node()
+	c := copies.Node(n)
+	before := fmt.Sprint(n)
+	if fmt.Sprint(c) != before {
+		t.Errorf("%v became %v", n, c)
+	}
+	scribble(n)
+	if fmt.Sprint(c) != before {
+		t.Errorf("memory is shared: %v", c)
+	}
+}
+
+func TestMesh(t *testing.T) {
+	m := api.Mesh{
+		ASN: 4, Nodes: []api.Node{node(), node()}, Places: []api.Place{{X: 1}}, Jams: []api.Jam{{Until: 1}}, Replays: []api.Replay{{From: 1}},
+		Sent: []api.Sent{{ASN: 1, Frame: api.Frame{Body: []byte{1}}}}, Told: []api.Reading{{Value: 1}},
+	}
+	c := copies.Mesh(m)
+	before := fmt.Sprint(m)
+	if fmt.Sprint(c) != before {
+		t.Errorf("%v became %v", m, c)
+	}
+	scribble(m.Nodes[1])
+	m.Nodes[0].ID, m.Places[0].X, m.Jams[0].Until, m.Replays[0].From, m.Sent[0].Frame.Body[0], m.Told[0].Value = 9, 9, 9, 9, 9, 9
+	m.Sent[0].ASN = 9
+	if fmt.Sprint(c) != before {
+		t.Errorf("memory is shared: %v", c)
+	}
+}
